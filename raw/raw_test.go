@@ -377,10 +377,11 @@ func checkKeys(t *testing.T, p, q int64) {
 	}
 }
 
-// P5.2, P5.3: an odd p over 2^10 has halves between two numbers, above 0 and below: the greater one is told.
+// P5.2, P5.3: an odd p over 2^10 has halves between two numbers, above 0 and below, and so have some below 1 over 3 times 2^10: the greater one is told.
 func TestHalves(t *testing.T) {
 	for _, c := range []struct{ p, q, want int64 }{
 		{1, 1024, 1073739266}, {-1, 1024, 1073739266}, {1023, 1024, 526335}, {1025, 1024, -523264}, {-1025, 1024, -523264}, {1535, 1024, -67239679}, {2047, 1024, -511}, {-2047, 1024, -511}, {3, 3072, 1073739266}, {256 * 1025, keyest, -523264},
+		{17, 3072, 1073659893}, {-17, 3072, 1073659893}, {35, 3072, 1073395762}, {3059, 3072, 2310250}, {-3059, 3072, 2310250},
 	} {
 		if got := Keys(c.p, c.q); got != c.want {
 			t.Errorf("of %d over %d: %d, not %d", c.p, c.q, got, c.want)
@@ -388,6 +389,9 @@ func TestHalves(t *testing.T) {
 	}
 	for p := int64(-2049); p <= 2049; p += 2 {
 		checkKeys(t, p, 1024)
+	}
+	for p := int64(-6143); p <= 6143; p += 2 {
+		checkKeys(t, p, 3072)
 	}
 	// Each x of this row is an odd number over 1024.
 	first, l := Row(Cubic, 512, 1, 0)
